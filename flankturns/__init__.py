@@ -1,0 +1,1 @@
+"""Flankturns: cells that take the colour of both their neighbours."""

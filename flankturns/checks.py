@@ -1,0 +1,80 @@
+"""Checks of arguments: each one raises the error that the document names for a wrong value."""
+
+from flankturns.errors import BadCell, BadCells, BadCount, BadFrame, BadLine, BadTime
+
+
+def is_within(value, low, high):
+    """Whether a value is an integer from low to high; True and False are none."""
+    return isinstance(value, int) and not isinstance(value, bool) and low <= value <= high
+
+
+def is_size(many, is_ring):
+    """Whether a row (is_ring is False) or a ring (True) can have so many cells."""
+    if is_ring is True:
+        return is_within(many, 3, 40)
+    return is_ring is False and is_within(many, 1, 40)
+
+
+def are_cells(some, many):
+    """Whether a value is an ascending tuple of unlike cells of a line with so many."""
+    if not isinstance(some, tuple):
+        return False
+    if not all(is_within(cell, 0, many - 1) for cell in some):
+        return False
+    return all(one < other for one, other in zip(some, some[1:]))
+
+
+def check_line(line):
+    """BadLine unless a value is a line."""
+    if not isinstance(line, tuple) or len(line) != 3:
+        raise BadLine(None)
+    cells, held, is_ring = line
+    if not isinstance(cells, tuple) or not is_size(len(cells), is_ring):
+        raise BadLine(None)
+    for index, colour in enumerate(cells):
+        if not is_within(colour, 0, 9):
+            raise BadLine(index)
+    if not are_cells(held, len(cells)):
+        raise BadLine(None)
+
+
+def check_frame(frame):
+    """BadFrame unless a value is a frame."""
+    if not isinstance(frame, tuple) or len(frame) != 3:
+        raise BadFrame("a frame is a tuple (many, held, is_ring)")
+    many, held, is_ring = frame
+    if not is_size(many, is_ring):
+        raise BadFrame("no line has so many cells")
+    if not are_cells(held, many):
+        raise BadFrame("held cells are unlike and ascend")
+
+
+def check_cell(cell, many):
+    """BadCell unless a value is a cell of a line with so many."""
+    if not is_within(cell, 0, many - 1):
+        raise BadCell("the line has no such cell")
+
+
+def check_cells(cells, many):
+    """BadCells unless a value is a tuple of so many colours."""
+    if not isinstance(cells, tuple) or len(cells) != many:
+        raise BadCells("there is one colour for each cell")
+    if not all(is_within(colour, 0, 9) for colour in cells):
+        raise BadCells("colours are integers from 0 to 9")
+
+
+def check_time(many, most):
+    """BadTime unless a value is a number of steps up to the most."""
+    if not is_within(many, 0, most):
+        raise BadTime("no such number of steps")
+
+
+def check_count(many, least, most):
+    """BadCount unless a value is an integer from the least to the most."""
+    if not is_within(many, least, most):
+        raise BadCount("no such number")
+
+
+def check_colours(colours):
+    """BadCount unless a value is a number of colours."""
+    check_count(colours, 1, 10)

@@ -1,0 +1,190 @@
+"""What the tests share: lines told by the plain words of the document, and wrong values of every kind."""
+
+import itertools
+
+ANYTHING = [True, False, None, "", "1", "01*0", -1, 0, 1, 10 ** 30, (), (0,), (0, 1, 0), [], [0, 1], {}, {0: 1}]
+
+GOOD_LINE = ((0, 1, 0, 1, 0), (), False)
+SWINGING = ((0, 1, 0, 1), (), True)
+
+# Values that are no line, each with the index that BadLine has for it.
+BAD_LINES = [(value, None) for value in ANYTHING] + [
+    (((0, 1, 0), ()), None),
+    (((0, 1, 0), (), False, 0), None),
+    ([(0, 1, 0), (), False], None),
+    (([0, 1, 0], (), False), None),
+    (("010", (), False), None),
+    ((None, (), False), None),
+    (({0: 1}, (), False), None),
+    ((3, (), False), None),
+    (((), (), False), None),
+    (((0,) * 41, (), False), None),
+    (((0, 1), (), True), None),
+    (((0,), (), True), None),
+    (((), (), True), None),
+    (((0,) * 41, (), True), None),
+    (((10,) * 41, (), False), None),
+    (((10, 10), (), True), None),
+    (((0, 1, 0), (), 0), None),
+    (((0, 1, 0), (), 1), None),
+    (((0, 1, 0), (), None), None),
+    (((0, 1, 0), (), "o"), None),
+    (((0, 1, 0), [], False), None),
+    (((0, 1, 0), None, False), None),
+    (((0, 1, 0), 1, False), None),
+    (((0, 1, 0), {}, False), None),
+    (((0, 1, 0), (3,), False), None),
+    (((0, 1, 0), (-1,), False), None),
+    (((0, 1, 0), (1, 0), False), None),
+    (((0, 1, 0), (1, 1), False), None),
+    (((0, 1, 0), (True,), False), None),
+    (((0, 1, 0), (False, 1), False), None),
+    (((0, 1, 0), ("1",), False), None),
+    (((0, 1, 0), (None,), False), None),
+    (((0, 1, 0), (0, 2, 1), True), None),
+    (((0, 1, 0, 1), (9,), True), None),
+    (((0, 1, 0, 1), (), 1), None),
+    (((0, 10), (), False), 1),
+    (((10, 10), (), False), 0),
+    (((-1, 0), (), False), 0),
+    (((True, 0), (), False), 0),
+    (((0, 0, False), (), False), 2),
+    (((0, "1", 0), (), True), 1),
+    (((0, 0, None), (), True), 2),
+    (((0, 0, (1,)), (), True), 2),
+    (((0, [], 10), (), True), 1),
+    (((0, {}, 10), (), True), 1),
+    (((0,) * 39 + (10,), (), True), 39),
+    (((0, 10, 0), (5,), False), 1),
+    (((0, 10, 0), None, False), 1),
+]
+
+BAD_FRAMES = ANYTHING + [
+    (3, ()),
+    (3, (), False, 0),
+    [3, (), False],
+    (0, (), False),
+    (41, (), False),
+    (-3, (), False),
+    (2, (), True),
+    (41, (), True),
+    (True, (), False),
+    (False, (), False),
+    ("3", (), False),
+    (None, (), False),
+    ((0, 1, 0), (), False),
+    ([3], (), False),
+    ({}, (), True),
+    (3, (), 0),
+    (3, (), 1),
+    (3, (), None),
+    (3, (), "o"),
+    (3, [], False),
+    (3, None, False),
+    (3, 0, False),
+    (3, {}, False),
+    (3, (3,), False),
+    (3, (-1,), False),
+    (3, (1, 0), False),
+    (3, (1, 1), True),
+    (3, (True,), False),
+    (3, ("1",), False),
+]
+
+BAD_CELLS = ANYTHING + [
+    (0, 1, 0, 1),
+    (0, 1, 0, 1, 0, 1),
+    [0, 1, 0, 1, 0],
+    (0, 1, 0, 1, 10),
+    (0, 1, -1, 1, 0),
+    (0, True, 0, 1, 0),
+    (False, 1, 0, 1, 0),
+    (0, 1, None, 1, 0),
+    ("0", "1", "0", "1", "0"),
+    (0, 1, (0,), 1, 0),
+    (0, 1, [], 1, 0),
+    (0, 1, {}, 1, 0),
+    "01010",
+]
+
+NO_INTEGERS = [True, False, None, "", "1", (), (1,), [], [1], {}, {1: 1}]
+
+
+def no_integer_within(low, high):
+    """Values that are no integer from low to high."""
+    return NO_INTEGERS + [low - 1, high + 1, -(10 ** 30), 10 ** 30]
+
+
+def held_tuples(many, most=40):
+    """All tuples of held cells, with no more than the most."""
+    return [some for number in range(min(many, most) + 1) for some in itertools.combinations(range(many), number)]
+
+
+def frames_of(sizes, is_ring, most_held=40):
+    """All frames with such numbers of cells."""
+    return [(many, held, is_ring) for many in sizes for held in held_tuples(many, most_held)]
+
+
+def lines_of(frame, colours):
+    """All lines with a frame, ascending."""
+    many, held, is_ring = frame
+    return [(cells, held, is_ring) for cells in itertools.product(range(colours), repeat=many)]
+
+
+def small_lines():
+    """Rows and rings with any held cells, and all colours that matter for them."""
+    found = []
+    for frame in frames_of((1, 2, 3, 4), False) + frames_of((3, 4), True):
+        found += lines_of(frame, 3)
+    for frame in frames_of((5, 6, 7), False, 2) + frames_of((5, 6, 7), True, 2):
+        found += lines_of(frame, 2)
+    for frame in frames_of((8,), False, 1) + frames_of((8,), True, 1):
+        found += lines_of(frame, 2)
+    return found
+
+
+def plain_ready(line):
+    """The ready cells, cell by cell as the document says it."""
+    cells, held, is_ring = line
+    many = len(cells)
+    found = []
+    for cell in range(many):
+        if cell in held or not is_ring and cell in (0, many - 1):
+            continue
+        left, right = cells[(cell - 1) % many], cells[(cell + 1) % many]
+        if left == right and left != cells[cell]:
+            found.append(cell)
+    return tuple(found)
+
+
+def plain_turned(line, cell):
+    """The line in which a cell has the colour of the one ahead of it."""
+    cells, held, is_ring = line
+    changed = list(cells)
+    changed[cell] = cells[cell - 1]
+    return tuple(changed), held, is_ring
+
+
+def plain_step(line):
+    """The line in which all ready cells have turned at once."""
+    cells, held, is_ring = line
+    ready = plain_ready(line)
+    return tuple(cells[k - 1] if k in ready else cells[k] for k in range(len(cells))), held, is_ring
+
+
+def plain_swings(line):
+    """Whether the line comes back to itself behind two steps, but not behind one."""
+    once = plain_step(line)
+    return once != line and plain_step(once) == line
+
+
+def plain_course(line):
+    """The lines at first and behind 1, 2, .. steps, until it is at rest; None if it never is."""
+    found = [line]
+    while True:
+        behind = plain_step(found[-1])
+        if behind == found[-1]:
+            return found
+        if behind in found:
+            return None
+        found.append(behind)

@@ -1,0 +1,81 @@
+"""The examples of the interface, as the document has them."""
+
+import unittest
+
+from flankturns.errors import BadLine, InvalidText
+from flankturns.frames import lines_by_time, mean_time, most_time, resting_count, swinging_count
+from flankturns.leaders import leader_count, leaders_by_time, least_leader, slowest_leader
+from flankturns.lines import depths, ready_cells, stretches, swings, turned
+from flankturns.linetext import read_line, write_line
+from flankturns.masses import borders, gains, lost_borders, masses
+from flankturns.pasts import before_count, befores, least_before, past
+from flankturns.singles import (can_come, come_count, comes_by_turns, end_count, end_with, ends, ends_by_turns,
+                                fewest_turns, is_rest_an_end, most_turns, ways_in_all, ways_to)
+from flankturns.steps import (after, changes, colour_at, last_turned, rest, rest_time, step, turn_counts, turns_by)
+
+SEVEN = ((0, 1, 0, 1, 0, 2, 0), (), False)
+FIVE = ((0, 1, 0, 1, 0), (), False)
+
+
+class TestExamples(unittest.TestCase):
+    def test_lines(self):
+        line = SEVEN
+        self.assertEqual(
+            [ready_cells(line), stretches(line), depths(line), turned(line, 5)[0], swings(((0, 1, 0, 1), (), True)),
+             stretches(((0, 1, 0, 1), (0,), True))],
+            [(1, 2, 3, 5), ((0, 1, 2, 3, 4), (4, 5, 6)), (0, 1, 2, 1, 0, 1, 0), (0, 1, 0, 1, 0, 0, 0), True,
+             ((0, 1, 2, 3, 0),)])
+        with self.assertRaises(BadLine) as caught:
+            ready_cells(((0, 10), (), False))
+        self.assertEqual(caught.exception.index, 1)
+
+    def test_linetext(self):
+        self.assertEqual([write_line(((0, 1, 2, 0), (1,), True)), read_line(" 01* 0")],
+                         ["01*20o", ((0, 1, 0), (1,), False)])
+        with self.assertRaises(InvalidText) as caught:
+            read_line("00o")
+        self.assertEqual(caught.exception.place, 2)
+
+    def test_steps(self):
+        line = SEVEN
+        self.assertEqual(
+            [step(line)[0], rest(line)[0], rest_time(line), turn_counts(line), changes(line), last_turned(line),
+             colour_at(line, 2, 1)],
+            [(0, 0, 1, 0, 0, 0, 0), (0, 0, 0, 0, 0, 0, 0), 2, (0, 1, 2, 1, 0, 1, 0), (4, 1), (2,), 1])
+        ring = ((0, 1, 0, 1), (), True)
+        self.assertEqual([after(ring, 3)[0], turns_by(ring, 7), rest(((0, 1, 0, 1), (0,), True))[0]],
+                         [(1, 0, 1, 0), (7, 7, 7, 7), (0, 0, 0, 0)])
+
+    def test_masses(self):
+        line = SEVEN
+        self.assertEqual([masses(line), gains(line), borders(line), lost_borders(line)],
+                         [((0, 4), (1, 2), (2, 1)), ((0, 3), (1, -2), (2, -1)), 6, 6])
+
+    def test_pasts(self):
+        flat = ((0, 0, 0), (), False)
+        self.assertEqual(
+            [before_count(flat, 2), befores(flat, 2), least_before(((0, 1, 0), (), False), 2), past(flat, 2, 3)],
+            [2, [(0, 0, 0), (0, 1, 0)], None, 2])
+
+    def test_leaders(self):
+        five = ((0, 0, 0, 0, 0), (), False)
+        self.assertEqual(
+            [leader_count(five, 2), leaders_by_time(five, 2), least_leader(five, 2), slowest_leader(five, 2)],
+            [5, (1, 3, 1), (0, 0, 0, 0, 0), (0, 1, 0, 1, 0)])
+
+    def test_frames(self):
+        self.assertEqual(
+            [most_time((5, (), False)), resting_count((3, (), False), 2), lines_by_time((4, (), False), 2),
+             swinging_count((4, (), True), 3), mean_time((3, (), False), 2)],
+            [2, 6, (10, 6), 6, (1, 4)])
+
+    def test_singles(self):
+        line = FIVE
+        self.assertEqual(
+            [come_count(line), comes_by_turns(line), end_count(line), ends_by_turns(line), ends(line),
+             can_come(line, (0, 0, 1, 1, 0))],
+            [5, (1, 3, 1), 2, (0, 1, 1), [(0, 0, 0, 0, 0), (0, 1, 1, 1, 0)], False])
+        self.assertEqual(
+            [fewest_turns(line), most_turns(line), ways_to(line, (0, 0, 0, 0, 0)), ways_in_all(line),
+             end_with(line, 2), is_rest_an_end(line), is_rest_an_end(((0, 1, 0, 1), (), False))],
+            [1, 2, 2, 3, (0, 0, 0, 0, 0), True, False])

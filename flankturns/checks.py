@@ -19,9 +19,9 @@ def are_cells(some, many):
     """Whether a value is an ascending tuple of unlike cells of a line with so many."""
     if not isinstance(some, tuple):
         return False
-    if not all(is_within(cell, 0, many - 1) for cell in some):
+    if not all([is_within(cell, 0, many - 1) for cell in some]):
         return False
-    return all(one < other for one, other in zip(some, some[1:]))
+    return all([one < other for one, other in zip(some, some[1:])])
 
 
 def check_line(line):
@@ -59,7 +59,7 @@ def check_cells(cells, many):
     """BadCells unless a value is a tuple of so many colours."""
     if not isinstance(cells, tuple) or len(cells) != many:
         raise BadCells("there is one colour for each cell")
-    if not all(is_within(colour, 0, 9) for colour in cells):
+    if not all([is_within(colour, 0, 9) for colour in cells]):
         raise BadCells("colours are integers from 0 to 9")
 
 

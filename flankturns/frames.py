@@ -32,7 +32,12 @@ def lines_by_time(frame, colours):
     check_frame(frame)
     check_colours(colours)
     within = [count_within(frame, colours, steps) for steps in range(most_time(frame) + 1)]
-    return tuple(one - other for one, other in zip(within, [0] + within))
+    return differences(within)
+
+
+def differences(totals):
+    """By how much each of some totals is more than the one before it."""
+    return tuple([one - other for one, other in zip(totals, [0] + totals)])
 
 
 def swinging_count(frame, colours):

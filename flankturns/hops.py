@@ -64,7 +64,7 @@ def place_worths(many):
 
 def digits_of(number, many):
     """The colours that are the digits of a number."""
-    return tuple(int(digit) for digit in str(number).zfill(many))
+    return tuple([int(digit) for digit in str(number).zfill(many)])
 
 
 def shows(cells, first, last, beside, steps):

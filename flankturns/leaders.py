@@ -1,7 +1,7 @@
 """Colours that come to rest as a line."""
 
 from flankturns.checks import check_colours, check_line
-from flankturns.frames import most_time
+from flankturns.frames import differences, most_time
 from flankturns.hops import digits_of
 from flankturns.lines import ready_cells
 from flankturns.paths import CountPaths, LeastPaths
@@ -45,7 +45,7 @@ def leaders_by_time(line, colours):
     check_line(line)
     check_colours(colours)
     within = [leaders_within(line, colours, steps) for steps in range(slowest_possible(line) + 1)]
-    return tuple(one - other for one, other in zip(within, [0] + within))
+    return differences(within)
 
 
 def least_leader(line, colours):

@@ -23,7 +23,7 @@ def ready_marks(line):
 def ready_cells(line):
     """The ascending tuple of the ready cells."""
     check_line(line)
-    return tuple(cell for cell, is_ready in enumerate(ready_marks(line)) if is_ready)
+    return tuple([cell for cell, is_ready in enumerate(ready_marks(line)) if is_ready])
 
 
 def turned(line, cell):
@@ -42,7 +42,7 @@ def stretch_around(ready, first):
     inside = 1
     while ready[(first + inside) % many]:
         inside += 1
-    return tuple((first - 1 + k) % many for k in range(inside + 2))
+    return tuple([(first - 1 + k) % many for k in range(inside + 2)])
 
 
 def stretches(line):

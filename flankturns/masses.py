@@ -8,13 +8,13 @@ def masses(line):
     """The ascending tuple of the pairs (colour, number) of all colours that a line has."""
     check_line(line)
     cells = line[0]
-    return tuple((colour, cells.count(colour)) for colour in sorted(set(cells)))
+    return tuple([(colour, cells.count(colour)) for colour in sorted(set(cells))])
 
 
 def gains(line):
     """The ascending tuple of the pairs (colour, how many more cells have it at rest)."""
     resting = rest(line)[0]
-    return tuple((colour, resting.count(colour) - number) for colour, number in masses(line))
+    return tuple([(colour, resting.count(colour) - number) for colour, number in masses(line)])
 
 
 def borders(line):

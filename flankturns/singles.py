@@ -29,7 +29,7 @@ def can_come(line, cells):
     inside = ready_cells(line)
     changed = changed_cells(line, cells)
     # The cell ahead of one that has turned has not: it still has the colour that the cell took.
-    return all(cell in inside and own[cell - 1] == cells[cell - 1] == cells[cell] for cell in changed)
+    return all([cell in inside and own[cell - 1] == cells[cell - 1] == cells[cell] for cell in changed])
 
 
 def is_end(line, cells):
@@ -39,7 +39,7 @@ def is_end(line, cells):
     many = len(cells)
     changed = changed_cells(line, cells)
     done = [(cell + by) % many for cell in changed for by in (-1, 0, 1)]
-    return all(cell in done for cell in ready_cells(line))
+    return all([cell in done for cell in ready_cells(line)])
 
 
 def comes_by_turns(line):
@@ -88,7 +88,7 @@ def end_sets(line):
 def colours_with(line, turned):
     """The colours of a line in which just some cells have turned."""
     cells = line[0]
-    return tuple(cells[k - 1] if k in turned else colour for k, colour in enumerate(cells))
+    return tuple([cells[k - 1] if k in turned else colour for k, colour in enumerate(cells)])
 
 
 def ends(line):

@@ -11,14 +11,14 @@ def turns_within(line, many):
     # A cell inside a stretch turns in each of the first steps, as many as its depth, and never again.
     if swings(line):
         return (many,) * len(line[0])
-    return tuple(min(depth, many) for depth in depths(line))
+    return tuple([min(depth, many) for depth in depths(line)])
 
 
 def line_behind(line, turns):
     """The line in which each cell has turned so often."""
     cells, held, is_ring = line
     # With each turn a cell changes between its own colour and that of both its neighbours.
-    colours = tuple(cells[k - 1] if turns[k] % 2 else cells[k] for k in range(len(cells)))
+    colours = tuple([cells[k - 1] if turns[k] % 2 else cells[k] for k in range(len(cells))])
     return colours, held, is_ring
 
 
@@ -59,14 +59,14 @@ def turns_by(line, many):
 def changes(line):
     """How many cells turn in the steps 1, 2, .., until the line is at rest."""
     turns = turn_counts(line)
-    return tuple(len([often for often in turns if often > past]) for past in range(max(turns)))
+    return tuple([len([often for often in turns if often > past]) for past in range(max(turns))])
 
 
 def last_turned(line):
     """The ascending tuple of the cells that turn in the last step in which one does."""
     turns = turn_counts(line)
     most = max(turns)
-    return tuple(cell for cell, often in enumerate(turns) if 0 < often == most)
+    return tuple([cell for cell, often in enumerate(turns) if 0 < often == most])
 
 
 def colour_at(line, cell, many):

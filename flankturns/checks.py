@@ -1,6 +1,7 @@
 """Checks of arguments: each one raises the error that the document names for a wrong value."""
 
-from flankturns.errors import BadCell, BadCells, BadCount, BadFrame, BadLine, BadTime
+from flankturns.errors import (BadCell, BadCells, BadCount, BadFlag, BadFrame, BadLine, BadOdds, BadPrices, BadSights,
+                               BadTime, BadWish)
 
 
 def is_within(value, low, high):
@@ -78,3 +79,54 @@ def check_count(many, least, most):
 def check_colours(colours):
     """BadCount unless a value is a number of colours."""
     check_count(colours, 1, 10)
+
+
+def check_held(cells, many):
+    """BadCell unless a value is an ascending tuple of unlike cells of a line with so many."""
+    if not are_cells(cells, many):
+        raise BadCell("cells are unlike and ascend")
+
+
+def is_wish(value, many):
+    """Whether a value is a tuple with a colour, or None, for each of so many cells."""
+    if not isinstance(value, tuple) or len(value) != many:
+        return False
+    return all([colour is None or is_within(colour, 0, 9) for colour in value])
+
+
+def check_wish(wish, many):
+    """BadWish unless a value is a wish for so many cells."""
+    if not is_wish(wish, many):
+        raise BadWish("a wish has a colour or None for each cell")
+
+
+def check_sights(sights, many):
+    """BadSights unless a value is a pair of wishes for so many cells."""
+    if not isinstance(sights, tuple) or len(sights) != 2:
+        raise BadSights("sights are a pair")
+    if not all([is_wish(wish, many) for wish in sights]):
+        raise BadSights("sights are a pair of wishes")
+
+
+def check_prices(prices, many):
+    """BadPrices unless a value is a tuple of prices for so many cells."""
+    if not isinstance(prices, tuple) or len(prices) != many:
+        raise BadPrices("there is one price for each cell")
+    if not all([is_within(price, 0, 1000) for price in prices]):
+        raise BadPrices("prices are integers from 0 to 1000")
+
+
+def check_flag(is_more):
+    """BadFlag unless a value is True or False."""
+    if is_more is not True and is_more is not False:
+        raise BadFlag("neither True nor False")
+
+
+def check_odds(odds):
+    """BadOdds unless a value is a tuple of odds."""
+    if not isinstance(odds, tuple) or not 1 <= len(odds) <= 10:
+        raise BadOdds("there are odds for one to ten colours")
+    if not all([is_within(number, 0, 100) for number in odds]):
+        raise BadOdds("odds are integers from 0 to 100")
+    if max(odds) == 0:
+        raise BadOdds("some colour comes")

@@ -1,9 +1,8 @@
 """Frames: lines without their colours, and how many lines with them need which time."""
 
-from math import gcd
-
 from flankturns.checks import check_colours, check_frame
 from flankturns.lines import free_marks
+from flankturns.ratios import lowest
 
 
 def most_time(frame):
@@ -40,21 +39,24 @@ def differences(totals):
     return tuple([one - other for one, other in zip(totals, [0] + totals)])
 
 
+def can_swing(frame):
+    """Whether a line with a frame can swing."""
+    many, held, is_ring = frame
+    return is_ring and not held and many % 2 == 0
+
+
 def swinging_count(frame, colours):
     """The number of lines with a frame and with some colours that swing."""
     check_frame(frame)
     check_colours(colours)
-    many, held, is_ring = frame
-    return colours * (colours - 1) if is_ring and not held and many % 2 == 0 else 0
+    return colours * (colours - 1) if can_swing(frame) else 0
 
 
 def mean_time(frame, colours):
     """The mean time of all lines with a frame and with some colours that come to rest, as a ratio."""
     by_time = lines_by_time(frame, colours)
     steps = sum([time * number for time, number in enumerate(by_time)])
-    lines = sum(by_time)
-    common = gcd(steps, lines)
-    return steps // common, lines // common
+    return lowest(steps, sum(by_time))
 
 
 def count_within(frame, colours, steps):

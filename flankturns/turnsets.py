@@ -19,6 +19,11 @@ def times(one, other):
     return found
 
 
+def left_around(place, many):
+    """How many of so many ready cells in a row are left before and behind the one at a place when it has turned."""
+    return max(place - 1, 0), max(many - place - 2, 0)
+
+
 def row_comes(many):
     """The numbers of sets that can turn among so many cells in a row."""
     shorter, found = [1], [1]

@@ -7,7 +7,8 @@ import unittest
 
 PACKAGE = pathlib.Path(__file__).resolve().parent.parent / "flankturns"
 FILES = sorted(PACKAGE.glob("*.py"))
-LIBRARY = {"math": {"gcd", "lcm", "isqrt", "comb", "perm", "factorial"}}
+LIBRARY = {"math": {"gcd", "lcm", "isqrt", "comb", "perm", "factorial"}, "heapq": {"heappush", "heappop"},
+           "itertools": {"combinations"}}
 BUILTINS = {"len", "range", "enumerate", "zip", "min", "max", "sum", "abs", "sorted", "reversed", "int", "str", "bool",
             "list", "tuple", "dict", "set", "isinstance", "any", "all", "divmod", "super", "ValueError",
             "NotImplementedError", "True", "False", "None"}

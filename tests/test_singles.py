@@ -8,17 +8,11 @@ from flankturns.errors import BadCells, BadCount, BadLine, Swings, TooMany
 from flankturns.singles import (can_come, come_count, comes_by_turns, end_count, end_with, ends, ends_by_turns,
                                 fewest_turns, is_end, is_rest_an_end, most_turns, ways_in_all, ways_to)
 from flankturns.lines import stretches
-from tests.tools import (BAD_CELLS, BAD_LINES, GOOD_LINE, SWINGING, frames_of, lines_of, no_integer_within,
-                         plain_course, plain_ready, plain_turned)
+from tests.tools import (BAD_CELLS, BAD_LINES, GOOD_LINE, SWINGING, in_turn, levels_of, no_integer_within,
+                         plain_course, plain_ready, sample_lines)
 
 ALONE = (come_count, end_count, comes_by_turns, ends_by_turns, ends, fewest_turns, most_turns, ways_in_all,
          is_rest_an_end)
-
-
-def in_turn(places, is_ring=False):
-    """A line of two colours in turn, with cells held at some places."""
-    many, *held = places
-    return tuple(cell % 2 for cell in range(many)), tuple(held), is_ring
 
 
 # Runs of 6, 6, 6, 5 and 5 ready cells with 5, 5, 5, 4 and 4 ends; and eleven runs of 2 with 2 ends each.
@@ -26,42 +20,10 @@ JUST_2000 = in_turn((34, 7, 14, 21, 27))
 MORE = in_turn([34] + list(range(3, 33, 3)))
 
 
-def orders_of(line):
-    """A dict from the colours that can come to the numbers of orders, told by all orders of turns."""
-    level = {line[0]: 1}
-    found = []
-    while level:
-        found.append(level)
-        behind = {}
-        for cells, number in level.items():
-            one = (cells,) + line[1:]
-            for cell in plain_ready(one):
-                turned = plain_turned(one, cell)[0]
-                behind[turned] = behind.get(turned, 0) + number
-        level = behind
-    return found
-
-
-def sample_lines():
-    """Rows and rings whose colours can come in several ways, and some in which nothing turns."""
-    found = []
-    for frame in frames_of((1, 2, 3, 4), False) + frames_of((3, 4), True):
-        found += lines_of(frame, 3)
-    for frame in frames_of((5, 6), False, 1) + frames_of((5, 6), True, 1):
-        found += lines_of(frame, 2)
-    for many in (7, 8, 9, 10, 11):
-        for held in [()] + [(cell,) for cell in range(0, many, 3)] + [(1, many - 2), (3, 4)]:
-            found.append(in_turn((many,) + held))
-            found.append(in_turn((many,) + held, True))
-    found.append(((0, 1, 0, 2, 0, 2, 3, 2, 3), (), False))
-    found.append(((0, 1, 0, 2, 0, 2, 3, 2, 3, 0), (), True))
-    return found
-
-
 class TestSingles(unittest.TestCase):
     def test_all_that_can_come(self):
         for line in sample_lines():
-            levels = orders_of(line)
+            levels = levels_of(line)
             self.assertEqual(comes_by_turns(line), tuple(len(level) for level in levels), line)
             self.assertEqual(come_count(line), sum(len(level) for level in levels), line)
             ended = [[cells for cells in level if not plain_ready((cells,) + line[1:])] for level in levels]
@@ -78,7 +40,7 @@ class TestSingles(unittest.TestCase):
 
     def test_each_of_some_colours(self):
         for line in sample_lines()[::7]:
-            orders = {cells: number for level in orders_of(line) for cells, number in level.items()}
+            orders = {cells: number for level in levels_of(line) for cells, number in level.items()}
             palette = sorted(set(line[0] + (0, 1)))
             many = len(line[0])
             some = itertools.product(palette, repeat=many) if many < 8 else itertools.product((0, 1), repeat=many)

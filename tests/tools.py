@@ -107,6 +107,67 @@ BAD_CELLS = ANYTHING + [
     "01010",
 ]
 
+BAD_WISHES = ANYTHING + [
+    (None,) * 4,
+    (None,) * 6,
+    [None] * 5,
+    (0, 1, 0, 1, 10),
+    (None, -1, None, None, None),
+    (None, True, None, None, None),
+    (False, None, None, None, None),
+    (None, "1", None, None, None),
+    (None, None, (), None, None),
+    (None, None, [0], None, None),
+    (None, None, {}, None, 0),
+    {0: 0, 1: 1, 2: 0, 3: 1, 4: 0},
+    "01010",
+]
+
+BAD_PRICES = ANYTHING + [
+    (0,) * 4,
+    (0,) * 6,
+    [0] * 5,
+    (0, 1, 2, 3, 1001),
+    (0, 1, 2, 3, -1),
+    (0, 1, True, 3, 4),
+    (False, 1, 2, 3, 4),
+    (None,) * 5,
+    (0, 1, None, 3, 4),
+    (0, 1, "2", 3, 4),
+    (0, 1, (2,), 3, 4),
+    (0, [], 2, 3, 4),
+    (0, {}, 2, 3, 4),
+    (0, 1, 2, 3, 10 ** 30),
+    "01010",
+]
+
+BAD_SIGHTS = ANYTHING + [(wish, (None,) * 5) for wish in BAD_WISHES] + [((None,) * 5, wish) for wish in BAD_WISHES] + [
+    ((None,) * 5,),
+    ((None,) * 5, (None,) * 5, (None,) * 5),
+    [(None,) * 5, (None,) * 5],
+    (None,) * 5,
+    {0: (None,) * 5, 1: (None,) * 5},
+]
+
+BAD_ODDS = [value for value in ANYTHING if value != (0, 1, 0)] + [
+    (0, 0, 0),
+    (1,) * 11,
+    [1, 1],
+    (1, 101),
+    (1, -1),
+    (1, True),
+    (False, 1),
+    (1, None),
+    (1, "1"),
+    (1, (1,)),
+    (1, []),
+    (1, {}),
+    (10 ** 30, 1),
+    "11",
+]
+
+NO_FLAGS = [None, 0, 1, -1, 2, "", "True", (), (True,), [], [True], {}, {True: True}, 10 ** 30]
+
 NO_INTEGERS = [True, False, None, "", "1", (), (1,), [], [1], {}, {1: 1}]
 
 
@@ -129,6 +190,55 @@ def lines_of(frame, colours):
     """All lines with a frame, ascending."""
     many, held, is_ring = frame
     return [(cells, held, is_ring) for cells in itertools.product(range(colours), repeat=many)]
+
+
+def in_turn(places, is_ring=False):
+    """A line of two colours in turn, with cells held at some places."""
+    many, *held = places
+    return tuple(cell % 2 for cell in range(many)), tuple(held), is_ring
+
+
+def sample_lines():
+    """Rows and rings whose colours can come in several ways, and some in which nothing turns."""
+    found = []
+    for frame in frames_of((1, 2, 3, 4), False) + frames_of((3, 4), True):
+        found += lines_of(frame, 3)
+    for frame in frames_of((5, 6), False, 1) + frames_of((5, 6), True, 1):
+        found += lines_of(frame, 2)
+    for many in (7, 8, 9, 10, 11):
+        for held in [()] + [(cell,) for cell in range(0, many, 3)] + [(1, many - 2), (3, 4)]:
+            found.append(in_turn((many,) + held))
+            found.append(in_turn((many,) + held, True))
+    found.append(((0, 1, 0, 2, 0, 2, 3, 2, 3), (), False))
+    found.append(((0, 1, 0, 2, 0, 2, 3, 2, 3, 0), (), True))
+    return found
+
+
+def random_frame(luck, most, is_ring=None):
+    """A frame with up to the most cells, some of them held."""
+    is_ring = luck.random() < 0.6 if is_ring is None else is_ring
+    many = luck.randint(3 if is_ring else 1, most)
+    share = luck.choice([0, 0, 0.2, 0.5])
+    return many, tuple(cell for cell in range(many) if luck.random() < share), is_ring
+
+
+def random_line(luck, most, colours):
+    """A line with up to the most cells, of some colours or of two in turn."""
+    many, held, is_ring = random_frame(luck, most)
+    if luck.random() < 0.4:
+        return tuple(cell % 2 for cell in range(many)), held, is_ring
+    return tuple(luck.randrange(colours) for _ in range(many)), held, is_ring
+
+
+def random_wish(luck, many, colours, share=None):
+    """A wish for so many cells, with that share of cells that have a colour."""
+    share = luck.choice([0, 0.1, 0.3, 0.6, 1]) if share is None else share
+    return tuple(luck.randrange(colours) if luck.random() < share else None for _ in range(many))
+
+
+def is_as_wished(cells, wish):
+    """Whether cells have the wished colours."""
+    return all(wished is None or colour == wished for colour, wished in zip(cells, wish))
 
 
 def small_lines():
@@ -188,3 +298,35 @@ def plain_course(line):
         if behind in found:
             return None
         found.append(behind)
+
+
+def plain_rest(line):
+    """The colours of a line at rest, None if it never is."""
+    course = plain_course(line)
+    return None if course is None else course[-1][0]
+
+
+def levels_of(line):
+    """For 0, 1, .. turns one at a time a dict from the colours that can come to the numbers of orders."""
+    level = {line[0]: 1}
+    found = []
+    while level:
+        found.append(level)
+        behind = {}
+        for cells, number in level.items():
+            one = (cells,) + line[1:]
+            for cell in plain_ready(one):
+                turned = plain_turned(one, cell)[0]
+                behind[turned] = behind.get(turned, 0) + number
+        level = behind
+    return found
+
+
+def is_still(line, cells):
+    """Whether no cell of a line is ready if it has some colours."""
+    return not plain_ready((cells,) + line[1:])
+
+
+def ratio_of(value):
+    """The ratio that a fraction is."""
+    return value.numerator, value.denominator

@@ -4,13 +4,19 @@ import copy
 import inspect
 import unittest
 
-from flankturns import frames, leaders, lines, linetext, masses, pasts, singles, steps
+from flankturns import (between, chances, frames, freely, hands, holds, leaders, lines, linetext, masses, odds, paint,
+                        pasts, sights, singles, steps, wishes)
 from flankturns.errors import FlankError
-from tests.tools import ANYTHING, BAD_CELLS, BAD_FRAMES, BAD_LINES
+from tests.tools import (ANYTHING, BAD_CELLS, BAD_FRAMES, BAD_LINES, BAD_ODDS, BAD_PRICES, BAD_SIGHTS, BAD_WISHES,
+                         NO_FLAGS)
 
 LINE = ((0, 1, 0, 1, 0), (), False)
 FRAME = (5, (), False)
 COLOURS = (0, 1, 1, 1, 0)
+OWN = LINE[0]
+WISH = (None, None, 0, None, 0)
+PRICES = (1, 2, 0, 1000, 5)
+SIGHTS = (WISH, WISH)
 
 # For each function of the interface arguments that are right.
 RIGHT = {
@@ -28,12 +34,36 @@ RIGHT = {
               "comes_by_turns": (LINE,), "ends_by_turns": (LINE,), "ends": (LINE,), "fewest_turns": (LINE,),
               "most_turns": (LINE,), "ways_to": (LINE, COLOURS), "ways_in_all": (LINE,), "end_with": (LINE, 2),
               "is_rest_an_end": (LINE,)},
+    chances: {"turn_chance": (LINE, 2), "mean_turns": (LINE,), "turns_chances": (LINE,),
+              "end_chance": (LINE, COLOURS), "first_chance": (LINE, 1, 2)},
+    hands: {"worth": (LINE,), "last_hand": (LINE,), "winning_cells": (LINE,), "turns_value": (LINE, True)},
+    paint: {"cheapest_paint": (LINE, WISH, PRICES, 2), "shows_paint": (LINE, WISH, PRICES, 2, (0, OWN)),
+            "fewest_painted": (LINE, WISH, 2), "one_colour": (LINE, 2), "kept_cells": (LINE, 2)},
+    sights: {"fit_count": (FRAME, SIGHTS, 2), "least_fit": (FRAME, SIGHTS, 2), "sure_colours": (FRAME, SIGHTS, 2),
+             "possible_colours": (FRAME, SIGHTS, 2), "next_asked": (FRAME, SIGHTS, 2),
+             "told_times": (FRAME, SIGHTS, 2)},
+    holds: {"fewest_holds": (LINE, WISH), "shows_holds": (LINE, WISH, (0, ())), "held_rest": (LINE, (1, 3)),
+            "hold_effects": (LINE,)},
+    wishes: {"wished_ends": (LINE, WISH), "wished_end": (LINE, WISH), "fewest_to": (LINE, WISH),
+             "most_to": (LINE, WISH), "cheapest_end": (LINE, PRICES), "dearest_end": (LINE, PRICES),
+             "step_cost": (LINE, PRICES)},
+    between: {"turns_between": (LINE, COLOURS), "common_count": (LINE, OWN, COLOURS),
+              "last_common": (LINE, OWN, COLOURS), "joined_turns": (LINE, OWN, COLOURS)},
+    freely: {"free_count": (LINE,), "free_ends": (LINE,), "is_free": (LINE, COLOURS), "free_time": (LINE, COLOURS)},
+    odds: {"rest_chances": (FRAME, (1, 2), 2), "time_chances": (FRAME, (1, 2)), "swing_chance": (FRAME, (1, 2)),
+           "all_chance": (FRAME, (1, 2), 1)},
 }
 
-# The errors for values that are nothing that could be asked for, by the names of arguments.
+# The errors for values that could not be asked for, by the names of arguments; judged values have none.
 WRONG = {"line": "BadLine", "cell": "BadCell", "many": "BadTime", "colours": "BadCount", "cells": "BadCells",
-         "frame": "BadFrame", "text": "NotText"}
-COUNTS = ("end_with",)
+         "frame": "BadFrame", "text": "NotText", "one": "BadCells", "other": "BadCells", "is_more": "BadFlag",
+         "wish": "BadWish", "prices": "BadPrices", "sights": "BadSights", "odds": "BadOdds", "colour": "BadCount",
+         "value": None}
+ELSE_WRONG = {("end_with", "many"): "BadCount", ("first_chance", "one"): "BadCell",
+              ("first_chance", "other"): "BadCell", ("held_rest", "cells"): "BadCell"}
+# What is right for some arguments, and wrong for all others.
+ELSE_RIGHT = {("held_rest", "cells"): [()], ("turns_value", "is_more"): [True, False]}
+NOTHING = [None, -1, [], {}, (), True, False, 10 ** 30, (None,), [0], {0: 0}]
 
 
 def all_functions():
@@ -42,8 +72,15 @@ def all_functions():
         for name, right in table.items():
             function = getattr(module, name)
             names = list(inspect.signature(function).parameters)
-            wanted = ["BadCount" if name in COUNTS and one == "many" else WRONG[one] for one in names]
+            wanted = [ELSE_WRONG.get((name, one), WRONG[one]) for one in names]
             yield function, right, wanted
+
+
+def wrong_values(function, place):
+    """Values that are wrong for the argument of a function at a place."""
+    name = list(inspect.signature(function).parameters)[place]
+    right = ELSE_RIGHT.get((function.__name__, name), [])
+    return [value for value in NOTHING if not any(kind_of(value) == kind_of(one) and value == one for one in right)]
 
 
 def kind_of(value):
@@ -65,23 +102,42 @@ class TestArguments(unittest.TestCase):
     def test_leftmost_wrong_argument(self):
         for function, right, wanted in all_functions():
             for place, name in enumerate(wanted):
-                for wrong in (None, -1, [], {}, (), True, 10 ** 30):
+                for wrong in wrong_values(function, place) if name else []:
                     arguments = right[:place] + (wrong,) * (len(right) - place)
                     with self.assertRaises(FlankError) as caught:
                         function(*arguments)
                     self.assertEqual(type(caught.exception).__name__, name, (function, arguments))
 
+    def test_two_wrong_arguments(self):
+        for function, right, wanted in all_functions():
+            for place, name in enumerate(wanted):
+                for behind in range(place + 1, len(right)):
+                    for wrong in wrong_values(function, place) if name else []:
+                        arguments = right[:place] + (wrong,) + right[place + 1:behind] + ("",) + right[behind + 1:]
+                        with self.assertRaises(FlankError) as caught:
+                            function(*arguments)
+                        self.assertEqual(type(caught.exception).__name__, name, (function, arguments))
+
     def test_one_wrong_argument(self):
         for function, right, wanted in all_functions():
             for place, name in enumerate(wanted):
-                for wrong in (None, -1, [], {}, (), True, False, 10 ** 30, (None,), [0], {0: 0}):
+                for wrong in wrong_values(function, place) if name else []:
                     arguments = right[:place] + (wrong,) + right[place + 1:]
                     with self.assertRaises(FlankError) as caught:
                         function(*arguments)
                     self.assertEqual(type(caught.exception).__name__, name, (function, arguments))
 
+    def test_judged_values(self):
+        for function, right, wanted in all_functions():
+            if None in wanted:
+                place = wanted.index(None)
+                for value in ANYTHING + BAD_CELLS + BAD_WISHES + BAD_PRICES + BAD_SIGHTS:
+                    self.assertIs(function(*right[:place], value, *right[place + 1:]), False, (function, value))
+                self.assertIs(function(*right), True)
+
     def test_arguments_are_not_modified(self):
-        values = ANYTHING + BAD_CELLS + BAD_FRAMES + [value for value, _ in BAD_LINES]
+        values = ANYTHING + BAD_CELLS + BAD_FRAMES + [value for value, _ in BAD_LINES] + BAD_WISHES + BAD_PRICES
+        values += BAD_SIGHTS + BAD_ODDS + NO_FLAGS
         for function, right, _ in all_functions():
             for place in range(len(right)):
                 for value in values:
@@ -103,11 +159,18 @@ class TestArguments(unittest.TestCase):
                 self.assertIsNot(first, function(*right))
 
     def test_kinds_of_answers(self):
-        whole = {"rest_time": int, "colour_at": int, "borders": int, "lost_borders": int, "before_count": int,
-                 "past": int, "leader_count": int, "most_time": int, "resting_count": int, "swinging_count": int,
-                 "come_count": int, "end_count": int, "fewest_turns": int, "most_turns": int, "ways_to": int,
-                 "ways_in_all": int, "swings": bool, "can_come": bool, "is_end": bool, "is_rest_an_end": bool,
-                 "write_line": str, "befores": list, "ends": list, "least_before": type(None),
-                 "least_leader": type(None), "slowest_leader": type(None)}
+        others = {
+            int: ("rest_time", "colour_at", "borders", "lost_borders", "before_count", "past", "leader_count",
+                  "most_time", "resting_count", "swinging_count", "come_count", "end_count", "fewest_turns",
+                  "most_turns", "ways_to", "ways_in_all", "worth", "turns_value", "fewest_painted", "fit_count",
+                  "next_asked", "wished_ends", "fewest_to", "most_to", "step_cost", "turns_between", "common_count",
+                  "free_count", "free_time"),
+            bool: ("swings", "can_come", "is_end", "is_rest_an_end", "last_hand", "shows_paint", "shows_holds",
+                   "is_free"),
+            str: ("write_line",),
+            list: ("befores", "ends", "free_ends"),
+            type(None): ("least_before", "least_leader", "slowest_leader"),
+        }
+        whole = {name: kind for kind, names in others.items() for name in names}
         for function, right, _ in all_functions():
             self.assertIs(type(function(*right)), whole.get(function.__name__, tuple), function)

@@ -2,16 +2,25 @@
 
 import unittest
 
+from flankturns.between import common_count, joined_turns, last_common, turns_between
+from flankturns.chances import end_chance, first_chance, mean_turns, turn_chance, turns_chances
 from flankturns.errors import BadLine, InvalidText
 from flankturns.frames import lines_by_time, mean_time, most_time, resting_count, swinging_count
+from flankturns.freely import free_count, free_ends, free_time, is_free
+from flankturns.hands import last_hand, turns_value, winning_cells, worth
+from flankturns.holds import fewest_holds, held_rest, hold_effects, shows_holds
 from flankturns.leaders import leader_count, leaders_by_time, least_leader, slowest_leader
 from flankturns.lines import depths, ready_cells, stretches, swings, turned
 from flankturns.linetext import read_line, write_line
 from flankturns.masses import borders, gains, lost_borders, masses
+from flankturns.odds import all_chance, rest_chances, swing_chance, time_chances
+from flankturns.paint import cheapest_paint, fewest_painted, kept_cells, one_colour, shows_paint
 from flankturns.pasts import before_count, befores, least_before, past
+from flankturns.sights import fit_count, least_fit, next_asked, possible_colours, sure_colours, told_times
 from flankturns.singles import (can_come, come_count, comes_by_turns, end_count, end_with, ends, ends_by_turns,
                                 fewest_turns, is_rest_an_end, most_turns, ways_in_all, ways_to)
 from flankturns.steps import (after, changes, colour_at, last_turned, rest, rest_time, step, turn_counts, turns_by)
+from flankturns.wishes import cheapest_end, dearest_end, fewest_to, most_to, step_cost, wished_end, wished_ends
 
 SEVEN = ((0, 1, 0, 1, 0, 2, 0), (), False)
 FIVE = ((0, 1, 0, 1, 0), (), False)
@@ -79,3 +88,71 @@ class TestExamples(unittest.TestCase):
             [fewest_turns(line), most_turns(line), ways_to(line, (0, 0, 0, 0, 0)), ways_in_all(line),
              end_with(line, 2), is_rest_an_end(line), is_rest_an_end(((0, 1, 0, 1), (), False))],
             [1, 2, 2, 3, (0, 0, 0, 0, 0), True, False])
+
+    def test_chances(self):
+        line = FIVE
+        self.assertEqual(
+            [turn_chance(line, 2), mean_turns(line), turns_chances(line), end_chance(line, (0, 1, 1, 1, 0)),
+             first_chance(line, 2, 1)],
+            [(1, 3), (5, 3), ((0, 1), (1, 3), (2, 3)), (1, 3), (1, 3)])
+
+    def test_hands(self):
+        line = FIVE
+        self.assertEqual(
+            [worth(line), last_hand(line), winning_cells(line), turns_value(line, True), turns_value(line, False)],
+            [2, True, (2,), 2, 1])
+
+    def test_paint(self):
+        some = ((0, 1, 1, 0, 1), (), False)
+        self.assertEqual(
+            [cheapest_paint(some, (0, 0, 0, 0, 0), (9, 2, 3, 1, 1), 2),
+             fewest_painted(some, (None, None, None, 1, 1), 2), one_colour(some, 2),
+             kept_cells(((0, 0, 0), (), False), 2)],
+            [(3, (0, 0, 1, 0, 0)), 0, ((0, 2), (1, 1)), (1, 2, 1)])
+        self.assertIs(shows_paint(some, (0, 0, 0, 0, 0), (9, 2, 3, 1, 1), 2, (3, (0, 0, 1, 0, 0))), True)
+
+    def test_sights(self):
+        frame, none = (3, (), False), (None, None, None)
+        self.assertEqual(
+            [fit_count(frame, ((0, None, 0), none), 2), least_fit(frame, (none, (0, 0, 0)), 2),
+             sure_colours(frame, ((0, None, 0), none), 2), next_asked(frame, (none, (0, 0, 0)), 2),
+             told_times(frame, (none, (0, 0, 0)), 2)],
+            [2, (0, 0, 0), ((0, None, 0), (0, 0, 0)), 1, (1, 1)])
+        self.assertEqual(possible_colours(frame, (none, (0, 0, 0)), 2), (((0,), (0, 1), (0,)), ((0,), (0,), (0,))))
+
+    def test_holds(self):
+        line = FIVE
+        self.assertEqual(
+            [fewest_holds(line, (0, 1, 0, 1, 0)), held_rest(line, (2,))[0], hold_effects(line),
+             shows_holds(line, (0, 1, 1, 1, 0), (2, (1, 3)))],
+            [(3, (1, 2, 3)), (0, 0, 0, 0, 0), (0, 2, 0, 2, 0), True])
+
+    def test_wishes(self):
+        line = FIVE
+        self.assertEqual(
+            [wished_ends(line, (None, 1, None, None, None)), fewest_to(line, (0, 0, None, 0, 0)),
+             cheapest_end(line, (0, 4, 5, 4, 0)), dearest_end(line, (0, 4, 5, 4, 0)),
+             step_cost(line, (0, 4, 5, 4, 0))],
+            [1, 2, (5, (0, 1, 1, 1, 0)), (8, (0, 0, 0, 0, 0)), 18])
+        self.assertEqual([wished_end(line, (None, 1, None, None, None)), most_to(line, (0, 0, None, None, 0))],
+                         [(0, 1, 1, 1, 0), 2])
+
+    def test_between(self):
+        line = FIVE
+        self.assertEqual(
+            [turns_between(line, (0, 0, 0, 0, 0)), common_count(line, (0, 0, 0, 1, 0), (0, 1, 0, 0, 0)),
+             last_common(line, (0, 0, 0, 0, 0), (0, 0, 0, 1, 0)), joined_turns(line, (0, 1, 1, 1, 0), (0, 0, 0, 0, 0))],
+            [2, 1, (0, 0, 0, 1, 0), None])
+
+    def test_freely(self):
+        four = ((0, 1, 0, 1), (), False)
+        self.assertEqual(
+            [free_count(four), free_ends(four), is_free(four, (0, 0, 1, 1)), free_time(four, (1, 1, 1, 1))],
+            [4, [(0, 0, 0, 1), (0, 0, 1, 1), (0, 1, 1, 1)], True, None])
+
+    def test_odds(self):
+        three = (3, (), False)
+        self.assertEqual(
+            [rest_chances(three, (1, 2), 1), time_chances(three, (1, 1)), swing_chance((4, (), True), (1, 1)),
+             all_chance(three, (1, 1), 0)],
+            [((7, 27), (20, 27)), ((3, 4), (1, 4)), (1, 8), (1, 4)])

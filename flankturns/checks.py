@@ -1,7 +1,7 @@
 """Checks of arguments: each one raises the error that the document names for a wrong value."""
 
-from flankturns.errors import (BadCell, BadCells, BadCount, BadFlag, BadFrame, BadLine, BadOdds, BadPrices, BadSights,
-                               BadTime, BadWish)
+from flankturns.errors import (BadCell, BadCells, BadCount, BadFlag, BadFrame, BadIndex, BadKind, BadLine, BadNames,
+                               BadOdds, BadPainted, BadPrices, BadSeen, BadSights, BadTime, BadWeb, BadWish, NotText)
 
 
 def is_within(value, low, high):
@@ -130,3 +130,71 @@ def check_odds(odds):
         raise BadOdds("odds are integers from 0 to 100")
     if max(odds) == 0:
         raise BadOdds("some colour comes")
+
+
+def check_text(text):
+    """NotText unless a value is a string."""
+    if not isinstance(text, str):
+        raise NotText("only a string is a text")
+
+
+def check_index(index, many):
+    """BadIndex unless a value is a number of one of so many, which are numbered from 0 on."""
+    if not is_within(index, 0, many - 1):
+        raise BadIndex("nothing has this number")
+
+
+def is_told(value):
+    """Whether a value is a tuple of colours that a cell shows at first and behind steps."""
+    if not isinstance(value, tuple) or not 1 <= len(value) <= 41:
+        return False
+    return all([is_within(colour, 0, 9) for colour in value])
+
+
+def check_seen(told):
+    """BadSeen unless a value is a tuple of colours that a cell shows at first and behind steps."""
+    if not is_told(told):
+        raise BadSeen("colours are told for 1 to 41 times")
+
+
+def check_row(line):
+    """BadLine unless a value is a line, BadKind for a ring."""
+    check_line(line)
+    if line[2]:
+        raise BadKind("a row is asked for")
+
+
+def check_ring(line):
+    """BadLine unless a value is a line, BadKind for a row."""
+    check_line(line)
+    if not line[2]:
+        raise BadKind("a ring is asked for")
+
+
+def check_names(names):
+    """BadNames unless a value is a tuple of ten unlike colours."""
+    if not isinstance(names, tuple) or not all([is_within(name, 0, 9) for name in names]):
+        raise BadNames("names are colours")
+    if sorted(names) != list(range(10)):
+        raise BadNames("each colour is named once")
+
+
+def check_web(web):
+    """BadWeb unless a value is a web."""
+    if not isinstance(web, tuple) or not 1 <= len(web) <= 6:
+        raise BadWeb(None)
+    for index, line in enumerate(web):
+        try:
+            check_line(line)
+        except BadLine:
+            raise BadWeb(index) from None
+
+
+def check_painted(painted, many):
+    """BadPainted unless a value tells which of so many cells two painters have painted."""
+    if not isinstance(painted, tuple) or len(painted) != many:
+        raise BadPainted("there is one item for each cell")
+    if not all([colour is None or is_within(colour, 0, 1) for colour in painted]):
+        raise BadPainted("cells have 0, 1 or nothing")
+    if painted.count(0) - painted.count(1) not in (0, 1):
+        raise BadPainted("the painters paint in turn")

@@ -3,31 +3,30 @@
 from flankturns.checks import check_colours, check_line
 from flankturns.frames import differences, most_time
 from flankturns.hops import digits_of
-from flankturns.lines import ready_cells
+from flankturns.lines import frame_of, ready_cells
 from flankturns.paths import CountPaths, LeastPaths
 
 
-def has_leaders(line, colours):
+def is_resting(line, colours):
     """Whether a line is at rest and has no other colours than those that are meant."""
     return not ready_cells(line) and max(line[0]) < colours
 
 
 def slowest_possible(line):
     """The most steps that a line with the frame of a line can need."""
-    cells, held, is_ring = line
-    return most_time((len(cells), held, is_ring))
+    return most_time(frame_of(line))
 
 
 def leaders_within(line, colours, steps):
     """The number of leaders that need some steps at most."""
-    if not has_leaders(line, colours):
+    if not is_resting(line, colours):
         return 0
     return CountPaths(line, list(range(colours)), steps).told(False)
 
 
 def least_of(line, colours, steps, is_long):
     """The least leader that needs some steps at most, or just as many if is_long is True."""
-    if not has_leaders(line, colours):
+    if not is_resting(line, colours):
         return None
     worth = LeastPaths(line, list(range(colours)), steps).told(is_long)
     return digits_of(worth, len(line[0]))

@@ -12,6 +12,12 @@ def free_marks(many, held, is_ring):
     return marks
 
 
+def frame_of(line):
+    """The frame of a line."""
+    cells, held, is_ring = line
+    return len(cells), held, is_ring
+
+
 def ready_marks(line):
     """For each cell whether it is ready."""
     cells, held, is_ring = line

@@ -1,7 +1,7 @@
 """Texts that name lines."""
 
-from flankturns.checks import check_line
-from flankturns.errors import InvalidText, NotText
+from flankturns.checks import check_line, check_text
+from flankturns.errors import InvalidText
 
 DIGITS = "0123456789"
 
@@ -16,8 +16,7 @@ def write_line(line):
 
 def read_line(text):
     """The line that a text names."""
-    if not isinstance(text, str):
-        raise NotText("only a string is a text")
+    check_text(text)
     cells = []
     held = []
     is_ring = False

@@ -11,7 +11,7 @@ class Paths:
 
     def __init__(self, line, palette, steps):
         self.trail = Trail(line)
-        self.steps = steps
+        self.most = steps
         hops = all_hops(self.trail, steps, self.fewer_colours(palette))
         inner = [hop for hop in hops if not self.trail.is_loop or hop.last < self.trail.size]
         self.closings = closing_hops(self.trail, hops)
@@ -46,7 +46,7 @@ class Paths:
 
     def around(self, hop, is_long):
         """What is told of the paths from the last cell of a closing hop to its first one, and by it."""
-        is_open = is_long and hop.time != self.steps
+        is_open = is_long and hop.time != self.most
         value = self.opened((hop.last, hop.left), hop.first, hop.beside, is_open)
         return self.lengthened(value, hop)
 
@@ -71,7 +71,7 @@ class Paths:
 
     def behind(self, source, hop, is_long):
         """What is told of the paths from a source that end with a hop."""
-        is_open = is_long and hop.time != self.steps
+        is_open = is_long and hop.time != self.most
         return self.lengthened(self.opened(source, hop.first, hop.beside, is_open), hop)
 
     def is_ready(self, cell, left, beside):
@@ -83,7 +83,7 @@ class CountPaths(Paths):
     """Tells how many paths there are."""
 
     def __init__(self, line, palette, steps):
-        Paths.__init__(self, line, palette, steps)
+        super().__init__(line, palette, steps)
         if self.trail.is_flat_loop:
             self.closings = unlike_closings(self.trail, self.closings)
 

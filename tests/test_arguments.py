@@ -4,11 +4,11 @@ import copy
 import inspect
 import unittest
 
-from flankturns import (between, chances, frames, freely, hands, holds, leaders, lines, linetext, masses, odds, paint,
-                        pasts, sights, singles, steps, wishes)
+from flankturns import (between, chances, frames, freeing, freely, hands, holds, joins, leaders, lines, linetext,
+                        masses, odds, paint, pasts, ranks, seeing, sights, singles, steps, webs, wishes)
 from flankturns.errors import FlankError
-from tests.tools import (ANYTHING, BAD_CELLS, BAD_FRAMES, BAD_LINES, BAD_ODDS, BAD_PRICES, BAD_SIGHTS, BAD_WISHES,
-                         NO_FLAGS)
+from tests.tools import (ANYTHING, BAD_CELLS, BAD_FRAMES, BAD_HELD, BAD_LINES, BAD_NAMES, BAD_ODDS, BAD_PRICES,
+                         BAD_SIGHTS, BAD_TOLD, BAD_WEBS, BAD_WISHES, NO_FLAGS)
 
 LINE = ((0, 1, 0, 1, 0), (), False)
 FRAME = (5, (), False)
@@ -17,6 +17,9 @@ OWN = LINE[0]
 WISH = (None, None, 0, None, 0)
 PRICES = (1, 2, 0, 1000, 5)
 SIGHTS = (WISH, WISH)
+RING = ((0, 1, 0, 1, 2), (1, 3), True)
+NAMES = tuple(range(9, -1, -1))
+WEB = (LINE, RING)
 
 # For each function of the interface arguments that are right.
 RIGHT = {
@@ -52,17 +55,27 @@ RIGHT = {
     freely: {"free_count": (LINE,), "free_ends": (LINE,), "is_free": (LINE, COLOURS), "free_time": (LINE, COLOURS)},
     odds: {"rest_chances": (FRAME, (1, 2), 2), "time_chances": (FRAME, (1, 2)), "swing_chance": (FRAME, (1, 2)),
            "all_chance": (FRAME, (1, 2), 1)},
+    ranks: {"rest_number": (((0, 1, 1), (), False), 2), "rest_at": (FRAME, 2, 3), "next_rest": (LINE, 2)},
+    seeing: {"seen": (LINE, 2, 3), "seen_count": (FRAME, 2, 2, (0, 1)), "can_be_seen": ((0, 1, 0),)},
+    joins: {"joined": (LINE, LINE), "mirrored": (LINE,), "shifted": (RING, 1), "opened": (RING, 1),
+            "renamed": (LINE, NAMES)},
+    webs: {"web_rest": (WEB,), "web_time": (WEB,), "web_ends": (WEB,), "web_turns": (WEB,), "web_mean": (WEB,),
+           "web_worth": (WEB,), "web_moves": (WEB,)},
+    freeing: {"freed_rest": (LINE, (1, 2), 3), "freed_time": (LINE, (1, 2), 3)},
 }
 
 # The errors for values that could not be asked for, by the names of arguments; judged values have none.
 WRONG = {"line": "BadLine", "cell": "BadCell", "many": "BadTime", "colours": "BadCount", "cells": "BadCells",
          "frame": "BadFrame", "text": "NotText", "one": "BadCells", "other": "BadCells", "is_more": "BadFlag",
          "wish": "BadWish", "prices": "BadPrices", "sights": "BadSights", "odds": "BadOdds", "colour": "BadCount",
-         "value": None}
+         "value": None, "index": "BadIndex", "told": "BadSeen", "by": "BadCell", "names": "BadNames", "web": "BadWeb"}
 ELSE_WRONG = {("end_with", "many"): "BadCount", ("first_chance", "one"): "BadCell",
-              ("first_chance", "other"): "BadCell", ("held_rest", "cells"): "BadCell"}
+              ("first_chance", "other"): "BadCell", ("held_rest", "cells"): "BadCell",
+              ("freed_rest", "cells"): "BadCell", ("freed_time", "cells"): "BadCell", ("can_be_seen", "told"): None,
+              ("joined", "one"): "BadLine", ("joined", "other"): "BadLine"}
 # What is right for some arguments, and wrong for all others.
-ELSE_RIGHT = {("held_rest", "cells"): [()], ("turns_value", "is_more"): [True, False]}
+ELSE_RIGHT = {("held_rest", "cells"): [()], ("freed_rest", "cells"): [()], ("freed_time", "cells"): [()],
+              ("turns_value", "is_more"): [True, False]}
 NOTHING = [None, -1, [], {}, (), True, False, 10 ** 30, (None,), [0], {0: 0}]
 
 
@@ -131,13 +144,14 @@ class TestArguments(unittest.TestCase):
         for function, right, wanted in all_functions():
             if None in wanted:
                 place = wanted.index(None)
-                for value in ANYTHING + BAD_CELLS + BAD_WISHES + BAD_PRICES + BAD_SIGHTS:
+                values = ANYTHING + BAD_CELLS + BAD_WISHES + BAD_PRICES + BAD_SIGHTS
+                for value in BAD_TOLD if function is seeing.can_be_seen else values:
                     self.assertIs(function(*right[:place], value, *right[place + 1:]), False, (function, value))
                 self.assertIs(function(*right), True)
 
     def test_arguments_are_not_modified(self):
         values = ANYTHING + BAD_CELLS + BAD_FRAMES + [value for value, _ in BAD_LINES] + BAD_WISHES + BAD_PRICES
-        values += BAD_SIGHTS + BAD_ODDS + NO_FLAGS
+        values += BAD_SIGHTS + BAD_ODDS + NO_FLAGS + BAD_HELD + BAD_TOLD + BAD_NAMES + [value for value, _ in BAD_WEBS]
         for function, right, _ in all_functions():
             for place in range(len(right)):
                 for value in values:
@@ -164,9 +178,10 @@ class TestArguments(unittest.TestCase):
                   "most_time", "resting_count", "swinging_count", "come_count", "end_count", "fewest_turns",
                   "most_turns", "ways_to", "ways_in_all", "worth", "turns_value", "fewest_painted", "fit_count",
                   "next_asked", "wished_ends", "fewest_to", "most_to", "step_cost", "turns_between", "common_count",
-                  "free_count", "free_time"),
+                  "free_count", "free_time", "rest_number", "seen_count", "web_time", "web_ends", "web_worth",
+                  "freed_time"),
             bool: ("swings", "can_come", "is_end", "is_rest_an_end", "last_hand", "shows_paint", "shows_holds",
-                   "is_free"),
+                   "is_free", "can_be_seen"),
             str: ("write_line",),
             list: ("befores", "ends", "free_ends"),
             type(None): ("least_before", "least_leader", "slowest_leader"),

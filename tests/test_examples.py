@@ -6,9 +6,11 @@ from flankturns.between import common_count, joined_turns, last_common, turns_be
 from flankturns.chances import end_chance, first_chance, mean_turns, turn_chance, turns_chances
 from flankturns.errors import BadLine, InvalidText
 from flankturns.frames import lines_by_time, mean_time, most_time, resting_count, swinging_count
+from flankturns.freeing import freed_rest, freed_time
 from flankturns.freely import free_count, free_ends, free_time, is_free
 from flankturns.hands import last_hand, turns_value, winning_cells, worth
 from flankturns.holds import fewest_holds, held_rest, hold_effects, shows_holds
+from flankturns.joins import joined, mirrored, opened, renamed, shifted
 from flankturns.leaders import leader_count, leaders_by_time, least_leader, slowest_leader
 from flankturns.lines import depths, ready_cells, stretches, swings, turned
 from flankturns.linetext import read_line, write_line
@@ -16,10 +18,13 @@ from flankturns.masses import borders, gains, lost_borders, masses
 from flankturns.odds import all_chance, rest_chances, swing_chance, time_chances
 from flankturns.paint import cheapest_paint, fewest_painted, kept_cells, one_colour, shows_paint
 from flankturns.pasts import before_count, befores, least_before, past
+from flankturns.ranks import next_rest, rest_at, rest_number
+from flankturns.seeing import can_be_seen, seen, seen_count
 from flankturns.sights import fit_count, least_fit, next_asked, possible_colours, sure_colours, told_times
 from flankturns.singles import (can_come, come_count, comes_by_turns, end_count, end_with, ends, ends_by_turns,
                                 fewest_turns, is_rest_an_end, most_turns, ways_in_all, ways_to)
 from flankturns.steps import (after, changes, colour_at, last_turned, rest, rest_time, step, turn_counts, turns_by)
+from flankturns.webs import web_ends, web_mean, web_moves, web_rest, web_time, web_turns, web_worth
 from flankturns.wishes import cheapest_end, dearest_end, fewest_to, most_to, step_cost, wished_end, wished_ends
 
 SEVEN = ((0, 1, 0, 1, 0, 2, 0), (), False)
@@ -156,3 +161,36 @@ class TestExamples(unittest.TestCase):
             [rest_chances(three, (1, 2), 1), time_chances(three, (1, 1)), swing_chance((4, (), True), (1, 1)),
              all_chance(three, (1, 1), 0)],
             [((7, 27), (20, 27)), ((3, 4), (1, 4)), (1, 8), (1, 4)])
+
+    def test_ranks(self):
+        self.assertEqual(
+            [rest_number(((0, 1, 1), (), False), 2), rest_at((3, (), False), 2, 2)[0],
+             next_rest(((0, 1, 0), (), False), 2)[0]],
+            [2, (0, 1, 1), (0, 1, 1)])
+
+    def test_seeing(self):
+        line = FIVE
+        self.assertEqual(
+            [seen(line, 2, 3), seen_count((3, (), False), 2, 1, (1, 0)), can_be_seen((0, 1, 0, 0)),
+             can_be_seen((0, 0, 1))],
+            [(0, 1, 0, 0), 1, True, False])
+
+    def test_joins(self):
+        four, ring = ((0, 1, 0, 1), (), False), ((0, 1, 0, 1), (1,), True)
+        self.assertEqual(
+            [joined(four, four)[0], mirrored(four)[0], shifted(ring, 1), opened(ring, 1)],
+            [(0, 1, 0, 1, 0, 1, 0, 1), (1, 0, 1, 0), ((1, 0, 1, 0), (0,), True), ((1, 0, 1, 0, 1), (), False)])
+        self.assertEqual(renamed(ring, (1, 0, 2, 3, 4, 5, 6, 7, 8, 9)), ((1, 0, 1, 0), (1,), True))
+
+    def test_webs(self):
+        four, line = ((0, 1, 0, 1), (), False), FIVE
+        self.assertEqual(
+            [web_time((four, line)), web_ends((four, line)), web_turns((four, line)), web_mean((four, line)),
+             web_worth((four, line)), web_moves((four, four)), web_moves((four, line))],
+            [2, 4, (0, 0, 2, 2), (8, 3), 3, (), ((1, 1), (1, 3))])
+        self.assertEqual(web_rest((four, line)), (((0, 0, 1, 1), (), False), ((0,) * 5, (), False)))
+
+    def test_freeing(self):
+        line = FIVE
+        self.assertEqual([freed_rest(line, (2,), 1)[0], freed_rest(line, (1,), 1)[0], freed_time(line, (1,), 0)],
+                         [(0, 0, 0, 0, 0), (0, 1, 1, 0, 0), 2])

@@ -7,13 +7,8 @@ import unittest
 from flankturns.errors import BadCell, BadLine, BadWish, Swings, TooMany
 from flankturns.holds import fewest_holds, held_rest, hold_effects, shows_holds
 from flankturns.steps import rest
-from tests.tools import (ANYTHING, BAD_LINES, BAD_WISHES, GOOD_LINE, SWINGING, held_tuples, in_turn, is_as_wished,
-                         plain_rest, random_line, random_wish, sample_lines)
-
-
-def held_too(line, cells):
-    """A line with some cells held, too."""
-    return line[0], tuple(sorted(set(line[1]) | set(cells))), line[2]
+from tests.tools import (ANYTHING, BAD_HELD, BAD_LINES, BAD_WISHES, GOOD_LINE, SWINGING, held_too, held_tuples, in_turn,
+                         is_as_wished, plain_rest, random_line, random_wish, sample_lines)
 
 
 def all_holds(line):
@@ -144,12 +139,9 @@ class TestHolds(unittest.TestCase):
             self.assertRaises(BadWish, shows_holds, GOOD_LINE, value, (2, (1, 3)))
 
     def test_bad_cells(self):
-        values = [value for value in ANYTHING if value not in ((), (0,))] + [
-            (1, 0), (1, 1), (0, 4, 2), (5,), (-1,), (0, 40), (True,), (False, 1), ("1",), (None,), ((0,),), [1], [],
-            {1: 1}, (10 ** 30,)]
-        for value in values:
+        for value in BAD_HELD:
             self.assertRaises(BadCell, held_rest, GOOD_LINE, value)
         # Swings comes behind all others.
-        for value in values + [(4,), (0, 4)]:
+        for value in BAD_HELD + [(4,), (0, 4)]:
             self.assertRaises(BadCell, held_rest, SWINGING, value)
         self.assertRaises(Swings, held_rest, SWINGING, ())

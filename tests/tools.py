@@ -166,6 +166,63 @@ BAD_ODDS = [value for value in ANYTHING if value != (0, 1, 0)] + [
     "11",
 ]
 
+# Values that are no ascending tuple of unlike cells of a line with 4 or 5 cells.
+BAD_HELD = [value for value in ANYTHING if value not in ((), (0,))] + [
+    (1, 0), (1, 1), (0, 3, 2), (5,), (-1,), (0, 40), (True,), (False, 1), ("1",), (None,), ((0,),), [1], [], {1: 1},
+    (10 ** 30,)]
+
+BAD_TOLD = [value for value in ANYTHING if value not in ((0,), (0, 1, 0))] + [
+    (0,) * 42,
+    (0, 1) * 21,
+    [0, 1, 0],
+    (0, 10),
+    (-1, 0),
+    (True, False),
+    (0, True),
+    (0, None),
+    (None,),
+    (0, "1"),
+    ((0,),),
+    (0, []),
+    (0, {}),
+    (0, 10 ** 30),
+    "010",
+    {0: 0, 1: 1},
+]
+
+BAD_NAMES = ANYTHING + [
+    tuple(range(9)),
+    tuple(range(11)),
+    list(range(10)),
+    "0123456789",
+    (0,) * 10,
+    (0, 1, 2, 3, 4, 5, 6, 7, 8, 8),
+    (0, 1, 2, 3, 4, 5, 6, 7, 8, 10),
+    tuple(range(1, 11)),
+    (-1, 1, 2, 3, 4, 5, 6, 7, 8, 9),
+    (False, 1, 2, 3, 4, 5, 6, 7, 8, 9),
+    (0, True, 2, 3, 4, 5, 6, 7, 8, 9),
+    (0, 1, 2, 3, 4, 5, 6, 7, 8, None),
+    (0, 1, 2, 3, 4, 5, 6, 7, 8, "9"),
+    (0, 1, 2, 3, 4, 5, 6, 7, 8, (9,)),
+    (0, 1, 2, 3, 4, 5, 6, 7, 8, []),
+    (0, 1, 2, 3, 4, 5, 6, 7, 8, {}),
+    {name: name for name in range(10)},
+]
+
+# Values that are no web, each with the index that BadWeb has for it.
+BAD_WEBS = [(value, None) for value in ANYTHING if value not in ((0,), (0, 1, 0))] + [
+    ((0,), 0),
+    ((0, 1, 0), 0),
+    ((GOOD_LINE,) * 7, None),
+    ((None,) * 7, None),
+    ([GOOD_LINE], None),
+    ({0: GOOD_LINE}, None),
+    (GOOD_LINE, 0),
+    ((GOOD_LINE,) * 5 + (None,), 5),
+    ((GOOD_LINE, None, None), 1),
+] + [((value,), 0) for value, _ in BAD_LINES] + [((GOOD_LINE, SWINGING, value, None), 2) for value, _ in BAD_LINES]
+
 NO_FLAGS = [None, 0, 1, -1, 2, "", "True", (), (True,), [], [True], {}, {True: True}, 10 ** 30]
 
 NO_INTEGERS = [True, False, None, "", "1", (), (1,), [], [1], {}, {1: 1}]
@@ -234,6 +291,11 @@ def random_wish(luck, many, colours, share=None):
     """A wish for so many cells, with that share of cells that have a colour."""
     share = luck.choice([0, 0.1, 0.3, 0.6, 1]) if share is None else share
     return tuple(luck.randrange(colours) if luck.random() < share else None for _ in range(many))
+
+
+def held_too(line, cells):
+    """A line with some cells held, too."""
+    return line[0], tuple(sorted(set(line[1]) | set(cells))), line[2]
 
 
 def is_as_wished(cells, wish):

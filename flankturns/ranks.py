@@ -33,12 +33,12 @@ class Order:
     def new_table(self, firsts):
         """For each number of cells a dict from the last two colours of these to how many lines go on so."""
         every = list(range(self.colours))
-        pairs = [(left, own) for left in every for own in every]
+        pairs = [(one, other) for one in every for other in every]
         table = [{} for _ in range(self.many + 1)]
         table[self.many] = {pair: 1 if self.closes(firsts, pair) else 0 for pair in pairs}
         for place in reversed(range(2, self.many)):
             behind = table[place + 1]
-            sums = [sum([behind[(own, right)] for right in every]) for own in every]
+            sums = [sum([behind[(colour, right)] for right in every]) for colour in every]
             for left, own in pairs:
                 is_barred = self.is_ready(place - 1, left, own, left)
                 table[place][(left, own)] = sums[own] - (behind[(own, left)] if is_barred else 0)

@@ -4,11 +4,12 @@ import copy
 import inspect
 import unittest
 
-from flankturns import (between, chances, frames, freeing, freely, hands, holds, joins, leaders, lines, linetext,
-                        masses, odds, paint, pasts, ranks, seeing, sights, singles, steps, webs, wishes)
+from flankturns import (between, chances, comers, desk, frames, freeing, freely, gardens, hands, holds, joins,
+                        leaders, lines, linetext, masses, odds, paint, painters, pasts, pictures, ranks, seeing,
+                        sights, singles, steps, webs, wishes)
 from flankturns.errors import FlankError
-from tests.tools import (ANYTHING, BAD_CELLS, BAD_FRAMES, BAD_HELD, BAD_LINES, BAD_NAMES, BAD_ODDS, BAD_PRICES,
-                         BAD_SIGHTS, BAD_TOLD, BAD_WEBS, BAD_WISHES, NO_FLAGS)
+from tests.tools import (ANYTHING, BAD_CELLS, BAD_FRAMES, BAD_HELD, BAD_LINES, BAD_NAMES, BAD_ODDS,
+                         BAD_PAINTED, BAD_PRICES, BAD_SIGHTS, BAD_TOLD, BAD_WEBS, BAD_WISHES, NO_FLAGS, NO_PICTURES)
 
 LINE = ((0, 1, 0, 1, 0), (), False)
 FRAME = (5, (), False)
@@ -20,6 +21,7 @@ SIGHTS = (WISH, WISH)
 RING = ((0, 1, 0, 1, 2), (1, 3), True)
 NAMES = tuple(range(9, -1, -1))
 WEB = (LINE, RING)
+PAINTED = (None, 0, 1, None, None)
 
 # For each function of the interface arguments that are right.
 RIGHT = {
@@ -62,13 +64,19 @@ RIGHT = {
     webs: {"web_rest": (WEB,), "web_time": (WEB,), "web_ends": (WEB,), "web_turns": (WEB,), "web_mean": (WEB,),
            "web_worth": (WEB,), "web_moves": (WEB,)},
     freeing: {"freed_rest": (LINE, (1, 2), 3), "freed_time": (LINE, (1, 2), 3)},
+    painters: {"painters_value": (FRAME, PAINTED), "painters_cells": (FRAME, PAINTED)},
+    pictures: {"picture": (LINE,), "read_picture": (("0101", "0011"),)},
+    gardens: {"garden_count": (FRAME, 2), "least_garden": (FRAME, 2), "age_counts": (FRAME, 2)},
+    comers: {"come_number": (LINE, COLOURS), "come_at": (LINE, 3), "first_come": (LINE,), "last_come": (LINE,),
+             "come_between": (LINE, OWN, COLOURS)},
 }
 
 # The errors for values that could not be asked for, by the names of arguments; judged values have none.
 WRONG = {"line": "BadLine", "cell": "BadCell", "many": "BadTime", "colours": "BadCount", "cells": "BadCells",
          "frame": "BadFrame", "text": "NotText", "one": "BadCells", "other": "BadCells", "is_more": "BadFlag",
          "wish": "BadWish", "prices": "BadPrices", "sights": "BadSights", "odds": "BadOdds", "colour": "BadCount",
-         "value": None, "index": "BadIndex", "told": "BadSeen", "by": "BadCell", "names": "BadNames", "web": "BadWeb"}
+         "value": None, "index": "BadIndex", "told": "BadSeen", "by": "BadCell", "names": "BadNames", "web": "BadWeb",
+         "painted": "BadPainted", "low": "BadCells", "high": "BadCells", "some": None}
 ELSE_WRONG = {("end_with", "many"): "BadCount", ("first_chance", "one"): "BadCell",
               ("first_chance", "other"): "BadCell", ("held_rest", "cells"): "BadCell",
               ("freed_rest", "cells"): "BadCell", ("freed_time", "cells"): "BadCell", ("can_be_seen", "told"): None,
@@ -144,14 +152,17 @@ class TestArguments(unittest.TestCase):
         for function, right, wanted in all_functions():
             if None in wanted:
                 place = wanted.index(None)
-                values = ANYTHING + BAD_CELLS + BAD_WISHES + BAD_PRICES + BAD_SIGHTS
+                is_bool = function is not pictures.read_picture
+                values = ANYTHING + BAD_CELLS + BAD_WISHES + BAD_PRICES + BAD_SIGHTS + NO_PICTURES
                 for value in BAD_TOLD if function is seeing.can_be_seen else values:
-                    self.assertIs(function(*right[:place], value, *right[place + 1:]), False, (function, value))
-                self.assertIs(function(*right), True)
+                    found = function(*right[:place], value, *right[place + 1:])
+                    self.assertIs(found, False if is_bool else None, (function, value))
+                self.assertIs(function(*right) if is_bool else function(*right) is not None, True)
 
     def test_arguments_are_not_modified(self):
         values = ANYTHING + BAD_CELLS + BAD_FRAMES + [value for value, _ in BAD_LINES] + BAD_WISHES + BAD_PRICES
         values += BAD_SIGHTS + BAD_ODDS + NO_FLAGS + BAD_HELD + BAD_TOLD + BAD_NAMES + [value for value, _ in BAD_WEBS]
+        values += BAD_PAINTED + NO_PICTURES
         for function, right, _ in all_functions():
             for place in range(len(right)):
                 for value in values:
@@ -179,7 +190,7 @@ class TestArguments(unittest.TestCase):
                   "most_turns", "ways_to", "ways_in_all", "worth", "turns_value", "fewest_painted", "fit_count",
                   "next_asked", "wished_ends", "fewest_to", "most_to", "step_cost", "turns_between", "common_count",
                   "free_count", "free_time", "rest_number", "seen_count", "web_time", "web_ends", "web_worth",
-                  "freed_time"),
+                  "freed_time", "painters_value", "garden_count", "come_number", "come_between"),
             bool: ("swings", "can_come", "is_end", "is_rest_an_end", "last_hand", "shows_paint", "shows_holds",
                    "is_free", "can_be_seen"),
             str: ("write_line",),
@@ -189,3 +200,33 @@ class TestArguments(unittest.TestCase):
         whole = {name: kind for kind, names in others.items() for name in names}
         for function, right, _ in all_functions():
             self.assertIs(type(function(*right)), whole.get(function.__name__, tuple), function)
+
+
+class TestDeskArguments(unittest.TestCase):
+    def test_class_stands_in_its_file(self):
+        self.assertEqual(desk.Desk.__module__, "flankturns.desk")
+        self.assertEqual(list(inspect.signature(desk.Desk).parameters), ["line"])
+        for name, parameters in (("run", ["self", "text"]), ("undo", ["self"]), ("redo", ["self"])):
+            self.assertEqual(list(inspect.signature(vars(desk.Desk)[name]).parameters), parameters)
+
+    def test_wrong_arguments(self):
+        for wrong in NOTHING:
+            with self.assertRaises(FlankError) as caught:
+                desk.Desk(wrong)
+            self.assertEqual(type(caught.exception).__name__, "BadLine", wrong)
+            with self.assertRaises(FlankError) as caught:
+                desk.Desk(LINE).run(wrong)
+            self.assertEqual(type(caught.exception).__name__, "NotText", wrong)
+
+    def test_arguments_are_not_modified(self):
+        one = desk.Desk(LINE)
+        for value in ANYTHING + BAD_CELLS + [value for value, _ in BAD_LINES]:
+            kept = copy.deepcopy(value)
+            for function in (desk.Desk, one.run):
+                try:
+                    function(value)
+                except FlankError:
+                    pass
+            self.assertEqual(kind_of(value), kind_of(kept))
+            self.assertEqual(value, kept)
+        self.assertEqual([one.line, one.steps], [LINE, ()])

@@ -4,10 +4,13 @@ import unittest
 
 from flankturns.between import common_count, joined_turns, last_common, turns_between
 from flankturns.chances import end_chance, first_chance, mean_turns, turn_chance, turns_chances
+from flankturns.comers import come_at, come_between, come_number, first_come, last_come
+from flankturns.desk import Desk
 from flankturns.errors import BadLine, InvalidText
 from flankturns.frames import lines_by_time, mean_time, most_time, resting_count, swinging_count
 from flankturns.freeing import freed_rest, freed_time
 from flankturns.freely import free_count, free_ends, free_time, is_free
+from flankturns.gardens import age_counts, garden_count, least_garden
 from flankturns.hands import last_hand, turns_value, winning_cells, worth
 from flankturns.holds import fewest_holds, held_rest, hold_effects, shows_holds
 from flankturns.joins import joined, mirrored, opened, renamed, shifted
@@ -17,7 +20,9 @@ from flankturns.linetext import read_line, write_line
 from flankturns.masses import borders, gains, lost_borders, masses
 from flankturns.odds import all_chance, rest_chances, swing_chance, time_chances
 from flankturns.paint import cheapest_paint, fewest_painted, kept_cells, one_colour, shows_paint
+from flankturns.painters import painters_cells, painters_value
 from flankturns.pasts import before_count, befores, least_before, past
+from flankturns.pictures import picture, read_picture
 from flankturns.ranks import next_rest, rest_at, rest_number
 from flankturns.seeing import can_be_seen, seen, seen_count
 from flankturns.sights import fit_count, least_fit, next_asked, possible_colours, sure_colours, told_times
@@ -194,3 +199,33 @@ class TestExamples(unittest.TestCase):
         line = FIVE
         self.assertEqual([freed_rest(line, (2,), 1)[0], freed_rest(line, (1,), 1)[0], freed_time(line, (1,), 0)],
                          [(0, 0, 0, 0, 0), (0, 1, 1, 0, 0), 2])
+
+    def test_painters(self):
+        frame = (3, (), False)
+        self.assertEqual([painters_value(frame, (None, None, None)), painters_cells(frame, (0, 1, None))], [1, (2,)])
+
+    def test_pictures(self):
+        self.assertEqual(
+            [picture(((0, 1, 0, 1), (), False)), read_picture(("0101", "0011")), read_picture(("0101",))],
+            [("0101", "0011"), ((0, 1, 0, 1), (), False), None])
+
+    def test_desk(self):
+        desk = Desk(FIVE)
+        self.assertEqual(
+            [desk.run("ready"), desk.run("turn 2"), desk.run("line"), desk.run("worth"), desk.undo(),
+             desk.run("hold 1"), desk.run("step"), desk.run("line"), desk.steps],
+            ["1 2 3", None, "01110", "0", None, None, None, "01*100", ("hold 1", "step")])
+        desk.undo()
+        self.assertEqual([desk.redo(), desk.line], [None, ((0, 1, 1, 0, 0), (1,), False)])
+
+    def test_gardens(self):
+        self.assertEqual(
+            [garden_count((3, (), False), 2), least_garden((3, (), False), 2), age_counts((3, (), False), 2)],
+            [2, (0, 1, 0), (6, 2)])
+
+    def test_comers(self):
+        line = FIVE
+        self.assertEqual(
+            [come_number(line, (0, 0, 0, 0, 0)), come_at(line, 4), first_come(line), last_come(line),
+             come_between(line, (0, 0, 0, 0, 0), (0, 1, 0, 1, 0))],
+            [0, (0, 1, 1, 1, 0), (0, 0, 0, 0, 0), (0, 1, 1, 1, 0), 4])

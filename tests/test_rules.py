@@ -10,7 +10,7 @@ FILES = sorted(PACKAGE.glob("*.py"))
 LIBRARY = {"math": {"gcd", "lcm", "isqrt", "comb", "perm", "factorial"}, "heapq": {"heappush", "heappop"},
            "itertools": {"combinations"}}
 BUILTINS = {"len", "range", "enumerate", "zip", "min", "max", "sum", "abs", "sorted", "reversed", "int", "str", "bool",
-            "list", "tuple", "dict", "set", "isinstance", "any", "all", "divmod", "super", "ValueError",
+            "list", "tuple", "dict", "set", "isinstance", "any", "all", "divmod", "super", "property", "ValueError",
             "NotImplementedError", "True", "False", "None"}
 BARRED = (ast.Div, ast.Yield, ast.YieldFrom, ast.Await, ast.AsyncFunctionDef, ast.Global, ast.AnnAssign)
 
@@ -39,7 +39,23 @@ class TestRules(unittest.TestCase):
                     self.assertIsNotNone(ast.get_docstring(node), (path, node.name))
                 if isinstance(node, ast.FunctionDef):
                     self.assertLessEqual(node.end_lineno - node.lineno + 1, 40, (path, node.name))
-                    self.assertEqual(node.decorator_list, [], (path, node.name))
+                    self.assertIn([one.id for one in node.decorator_list], ([], ["property"]), (path, node.name))
+
+    def test_properties(self):
+        properties, others, stored = [], [], []
+        for path, tree in self.trees():
+            for node in ast.walk(tree):
+                if isinstance(node, ast.FunctionDef):
+                    (properties if node.decorator_list else others).append(node)
+                if isinstance(node, ast.Attribute) and isinstance(node.ctx, ast.Store):
+                    stored.append(node.attr)
+        self.assertEqual(sorted(node.name for node in properties), ["line", "steps"])
+        for node in properties:
+            # A docstring and what is returned, an attribute.
+            self.assertEqual([type(one) for one in node.body], [ast.Expr, ast.Return])
+            self.assertIsInstance(node.body[1].value, ast.Attribute)
+            self.assertNotIn(node.name, stored)
+            self.assertNotIn(node.name, [one.name for one in others])
 
     def test_nothing_barred(self):
         for path, tree in self.trees():

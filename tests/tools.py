@@ -223,6 +223,64 @@ BAD_WEBS = [(value, None) for value in ANYTHING if value not in ((0,), (0, 1, 0)
     ((GOOD_LINE, None, None), 1),
 ] + [((value,), 0) for value, _ in BAD_LINES] + [((GOOD_LINE, SWINGING, value, None), 2) for value, _ in BAD_LINES]
 
+# Values that do not tell painted cells of a frame with 5 cells.
+BAD_PAINTED = ANYTHING + [
+    (None,) * 4,
+    (None,) * 6,
+    [None] * 5,
+    (1, None, None, None, None),
+    (0, 0, None, None, None),
+    (0, 1, 1, None, None),
+    (0, 1, 0, 1, 1),
+    (0, 0, 0, 0, 1),
+    (0, 1, 2, None, None),
+    (0, 1, -1, None, None),
+    (False, None, None, None, None),
+    (0, True, None, None, None),
+    (0, "1", None, None, None),
+    ("", None, None, None, None),
+    (0, (1,), None, None, None),
+    (0, [], None, None, None),
+    (0, {}, None, None, None),
+    (0, 1, 10 ** 30, None, None),
+    {cell: None for cell in range(5)},
+    "01010",
+]
+
+# Values that are no picture.
+NO_PICTURES = [
+    "0101",
+    ["0101", "0011"],
+    {"0101": "0011"},
+    ("0101",),
+    ("0101", "0011", "0011"),
+    ("0011", "0101"),
+    ("0101", "0010"),
+    ("0101", "0111"),
+    (" 0101", "0011"),
+    ("0101", "0011 "),
+    ("01 01", "0011"),
+    ("0101", None),
+    (None, "0011"),
+    ("0101", 11),
+    (101, 11),
+    (("0101", "0011"),),
+    (["0101"], "0011"),
+    ({}, "0011"),
+    ("0101", ()),
+    ("0101", ("0011",)),
+    ("0101o",),
+    ("0101o", "1010o", "0101o"),
+    ("0101o", "0101o"),
+    ("",),
+    ("x",),
+    ("01*0",) * 2,
+    ("0" * 41,),
+    (True,),
+    ("0", True),
+    (((0, 1, 0, 1), (), False),),
+]
+
 NO_FLAGS = [None, 0, 1, -1, 2, "", "True", (), (True,), [], [True], {}, {True: True}, 10 ** 30]
 
 NO_INTEGERS = [True, False, None, "", "1", (), (1,), [], [1], {}, {1: 1}]

@@ -144,17 +144,12 @@ def check_index(index, many):
         raise BadIndex("nothing has this number")
 
 
-def is_told(value):
-    """Whether a value is a tuple of colours that a cell shows at first and behind steps."""
-    if not isinstance(value, tuple) or not 1 <= len(value) <= 41:
-        return False
-    return all([is_within(colour, 0, 9) for colour in value])
-
-
 def check_seen(told):
     """BadSeen unless a value is a tuple of colours that a cell shows at first and behind steps."""
-    if not is_told(told):
+    if not isinstance(told, tuple) or not 1 <= len(told) <= 41:
         raise BadSeen("colours are told for 1 to 41 times")
+    if not all([is_within(colour, 0, 9) for colour in told]):
+        raise BadSeen("colours are integers from 0 to 9")
 
 
 def check_row(line):

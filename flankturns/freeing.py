@@ -1,15 +1,14 @@
 """Cells that are held for some steps, and free again behind them."""
 
-from flankturns.checks import check_held, check_line, check_time
+from flankturns.checks import check_held, check_line
 from flankturns.holds import with_held
-from flankturns.steps import MOST_STEPS, after, rest, rest_time
+from flankturns.steps import after, rest, rest_time
 
 
 def line_freed(line, cells, many):
     """The line behind so many steps in which some cells are held, too."""
     check_line(line)
     check_held(cells, len(line[0]))
-    check_time(many, MOST_STEPS)
     return after(with_held(line, cells), many)[0], line[1], line[2]
 
 

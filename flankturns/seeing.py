@@ -1,6 +1,6 @@
 """The colours that one cell shows, step by step."""
 
-from flankturns.checks import check_cell, check_colours, check_frame, check_line, check_time, check_seen, is_told
+from flankturns.checks import check_cell, check_colours, check_frame, check_line, check_seen, check_time
 from flankturns.every import all_cells, check_few_lines
 from flankturns.steps import turns_within
 
@@ -34,9 +34,8 @@ def seen_count(frame, colours, cell, told):
 
 
 def can_be_seen(told):
-    """Whether a value is colours that a cell of any line, of however many cells, could show."""
-    if not is_told(told):
-        return False
+    """Whether a cell of any line, of however many cells, could show the told colours."""
+    check_seen(told)
     place = 1
     while place < len(told) and told[place] != told[place - 1] and told[place] == told[place % 2]:
         place += 1

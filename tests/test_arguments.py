@@ -79,7 +79,7 @@ WRONG = {"line": "BadLine", "cell": "BadCell", "many": "BadTime", "colours": "Ba
          "painted": "BadPainted", "low": "BadCells", "high": "BadCells", "some": None}
 ELSE_WRONG = {("end_with", "many"): "BadCount", ("first_chance", "one"): "BadCell",
               ("first_chance", "other"): "BadCell", ("held_rest", "cells"): "BadCell",
-              ("freed_rest", "cells"): "BadCell", ("freed_time", "cells"): "BadCell", ("can_be_seen", "told"): None,
+              ("freed_rest", "cells"): "BadCell", ("freed_time", "cells"): "BadCell",
               ("joined", "one"): "BadLine", ("joined", "other"): "BadLine"}
 # What is right for some arguments, and wrong for all others.
 ELSE_RIGHT = {("held_rest", "cells"): [()], ("freed_rest", "cells"): [()], ("freed_time", "cells"): [()],
@@ -154,7 +154,7 @@ class TestArguments(unittest.TestCase):
                 place = wanted.index(None)
                 is_bool = function is not pictures.read_picture
                 values = ANYTHING + BAD_CELLS + BAD_WISHES + BAD_PRICES + BAD_SIGHTS + NO_PICTURES
-                for value in BAD_TOLD if function is seeing.can_be_seen else values:
+                for value in values:
                     found = function(*right[:place], value, *right[place + 1:])
                     self.assertIs(found, False if is_bool else None, (function, value))
                 self.assertIs(function(*right) if is_bool else function(*right) is not None, True)

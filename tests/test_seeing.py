@@ -7,7 +7,7 @@ import unittest
 from flankturns.errors import BadCell, BadCount, BadFrame, BadLine, BadSeen, BadTime, TooMany
 from flankturns.seeing import can_be_seen, seen, seen_count
 from flankturns.steps import after
-from tests.tools import (ANYTHING, BAD_FRAMES, BAD_LINES, BAD_TOLD, GOOD_LINE, SWINGING, frames_of, in_turn, lines_of,
+from tests.tools import (BAD_FRAMES, BAD_LINES, BAD_TOLD, GOOD_LINE, SWINGING, frames_of, in_turn, lines_of,
                          no_integer_within, plain_step, random_line, small_lines)
 
 FRAME = (5, (), False)
@@ -167,8 +167,9 @@ class TestCanBeSeen(unittest.TestCase):
             for told in itertools.product(range(3), repeat=many):
                 self.assertIs(can_be_seen(told), told in shown, told)
 
-    def test_any_value(self):
+    def test_wrong_arguments(self):
         for value in BAD_TOLD:
-            self.assertIs(can_be_seen(value), False, value)
-        for value in ANYTHING:
-            self.assertIs(can_be_seen(value), value in ((0,), (0, 1, 0)))
+            self.assertRaises(BadSeen, can_be_seen, value)
+        for many in (0, 42, 43, 100):
+            self.assertRaises(BadSeen, can_be_seen, (0,) * many)
+            self.assertRaises(BadSeen, can_be_seen, ((0, 1) * many)[:many])
